@@ -1,0 +1,1 @@
+"""Ownchain: a small language whose maker is written in itself."""
