@@ -8,6 +8,17 @@ PICK = 4
 LOOP = 5
 CALL = 6
 FAIL = 7
+ADD = 8
+SUB = 9
+MUL = 10
+QUO = 11
+REST = 12
+LESS = 13
+SAME = 14
+PUSH = 15
+AT = 16
+PUT = 17
+SIZE = 18
 NEW = 19
 
 # From SET on: a number and a get are written without a word of their kind.

@@ -1,6 +1,7 @@
 """The package's files keep to the small part of Python: those rules that a walk over the files can see."""
 
 import ast
+import builtins
 import pathlib
 import re
 import unittest
@@ -29,6 +30,19 @@ OWN_METHODS = (
     "items join keys ljust lower lstrip partition pop remove replace reverse rfind rjust rpartition rsplit rstrip "
     "setdefault split splitlines startswith strip update upper values zfill bit_length"
 ).split()
+NO_NAMES = (
+    "attrgetter breakpoint builtins compile copyright credits delattr dir eval exec exit gc getattr globals hasattr "
+    "help id importlib license locals methodcaller os quit setattr super type vars sys register mro elements open "
+    "input version_info with_traceback add_note"
+).split()
+# What is walked at once, and the calls that it may be the first thing in.
+WALKED = ("zip", "enumerate", "reversed", "range")
+WALKED_METHODS = ("items", "keys", "values")
+WALKERS = ("list", "tuple", "dict", "sorted", "sum", "any", "all", "enumerate", "zip", "min", "max")
+KEYWORDS = {
+    "sorted": ("key", "reverse"), "min": ("key", "default"), "max": ("key", "default"), "sum": ("start",),
+    "enumerate": ("start",), "zip": ("strict",),
+}
 TWO_UNDERSCORES = ("__init__", "__eq__", "__repr__", "__str__", "__len__")
 
 
@@ -173,6 +187,109 @@ class Forms(unittest.TestCase):
         self.assertEqual(own & values, set())
         for where, node in walked(ast.Attribute):
             self.assertIn(node.attr, own | values | set(OWN_METHODS), where)
+
+    def test_values_of_objects_are_not_called_like_pythons_own_methods(self):
+        own = {name for kind in (str, int, list, dict, set, bytes) for name in dir(kind)}
+        free = "count index title find get join lower upper split strip copy add".split()
+        for where, node in walked(ast.Attribute):
+            if not isinstance(node.ctx, ast.Load) and node.attr not in free:
+                self.assertNotIn(node.attr, own, where)
+
+
+class Narrower(unittest.TestCase):
+    def test_the_top_of_a_file(self):
+        for path, tree in trees():
+            for row in tree.body:
+                if isinstance(row, ast.Expr):
+                    self.assertIs(row, tree.body[0], path.name)
+                    continue
+                self.assertIsInstance(row, (ast.ImportFrom, ast.FunctionDef, ast.ClassDef, ast.Assign), path.name)
+                if isinstance(row, ast.Assign):
+                    # Tuples alone, in the place of lists and dicts: so no def can change them.
+                    for value in ast.walk(row.value):
+                        self.assertIsInstance(value, (ast.Constant, ast.Tuple, ast.expr_context), path.name)
+
+    def test_parameters_and_locals(self):
+        for path, tree in trees():
+            taken = set(dir(builtins)) | set(NO_NAMES) | set(imported(tree))
+            taken |= {row.name for row in tree.body if isinstance(row, ast.ClassDef)}
+            for function in ast.walk(tree):
+                if isinstance(function, ast.FunctionDef):
+                    for node in ast.walk(function):
+                        if isinstance(node, ast.arg):
+                            self.assertNotIn(node.arg, taken, path.name)
+                        if isinstance(node, ast.Name) and not isinstance(node.ctx, ast.Load):
+                            self.assertNotIn(node.id, taken, path.name)
+
+    def test_names_that_are_not_used(self):
+        for where, node in walked(ast.Name):
+            self.assertNotIn(node.id, NO_NAMES, where)
+        for where, node in walked(ast.Attribute):
+            self.assertNotIn(node.attr, NO_NAMES[-8:] + ["format", "format_map"], where)
+
+    def test_keywords(self):
+        for where, node in walked(ast.Call):
+            for keyword in node.keywords:
+                self.assertIn(keyword.arg, KEYWORDS.get(getattr(node.func, "id", ""), ()), where)
+
+    def test_what_is_walked_at_once(self):
+        for path, tree in trees():
+            on_the_spot = []
+            for node in ast.walk(tree):
+                if isinstance(node, (ast.For, ast.comprehension)):
+                    on_the_spot.append(node.iter)
+                if isinstance(node, ast.Call) and getattr(node.func, "id", "") in WALKERS:
+                    on_the_spot += node.args if node.func.id == "zip" else node.args[:1]
+            for node in ast.walk(tree):
+                if not isinstance(node, ast.Call):
+                    continue
+                named = getattr(node.func, "id", "") in WALKED
+                if named or getattr(node.func, "attr", "") in WALKED_METHODS:
+                    self.assertTrue(any(node is other for other in on_the_spot), f"{path.name}:{node.lineno}")
+
+    def test_no_sets(self):
+        for where, node in walked(ast.Set):
+            self.fail(where)
+        for where, node in walked(ast.Name):
+            self.assertNotIn(node.id, ("set", "frozenset"), where)
+
+    def test_own_names_are_called_and_not_kept(self):
+        for path, tree in trees():
+            called = [node.func for node in ast.walk(tree) if isinstance(node, ast.Call)]
+            asked = []
+            for node in ast.walk(tree):
+                if isinstance(node, ast.Call) and getattr(node.func, "id", "") == "isinstance":
+                    asked += list(ast.walk(node.args[1]))
+                if isinstance(node, ast.ClassDef):
+                    asked += node.bases
+            for node in ast.walk(tree):
+                if isinstance(node, ast.Name) and node.id in OWN_NAMES:
+                    self.assertTrue(any(node is other for other in called + asked), f"{path.name}:{node.lineno}")
+
+    def test_errors_are_taken_by_the_programs_own_names(self):
+        defined = {node.name for where, node in walked(ast.ClassDef)}
+        for where, node in walked(ast.ExceptHandler):
+            self.assertIsInstance(node.type, ast.Name, where)
+            self.assertIn(node.type.id, defined | {"KeyError", "ZeroDivisionError"}, where)
+        for where, node in walked(ast.Raise):
+            self.assertIsInstance(node.exc, ast.Call, where)
+            self.assertIn(node.exc.func.id, defined, where)
+
+    def test_numbers_and_texts(self):
+        for where, node in walked(ast.Constant):
+            if isinstance(node.value, str):
+                self.assertNotIn("%", node.value, where)
+            if isinstance(node.value, int):
+                self.assertLessEqual(len(str(node.value)), 900, where)
+        for where, node in walked(ast.BinOp):
+            if isinstance(node.op, ast.Pow):
+                self.assertIn(getattr(node.right, "value", None), range(65), where)
+
+    def test_no_annotations(self):
+        for where, node in walked(ast.arg):
+            self.assertIsNone(node.annotation, where)
+        for where, node in walked(ast.FunctionDef):
+            self.assertIsNone(node.returns, where)
 
 
 if __name__ == "__main__":

@@ -6,11 +6,7 @@ import unittest
 
 from ownchain.errors import ChainError, NoSheet
 from ownchain.sheets import functions, nodes, sheet_of, wrong
-
-SIXTY = 10 ** 60 - 1
-
-# Two parts: 8 to 16; one: 18; three: 17; none: 19.
-TWO_PARTS = tuple(range(8, 17))
+from programs import SIXTY, TWO_PARTS, random_programs
 
 
 def number(value):
@@ -58,73 +54,8 @@ def ordinary():
     ]
 
 
-def random_node(dice, heads, boxes, deep):
-    kinds = [0, 19] + ([1] if boxes else [])
-    if deep < 10 and dice.random() < 0.8:
-        kinds = [2] * (boxes > 0) + [3, 4, 5, 6, 7, 17, 18] + list(TWO_PARTS)
-    kind = dice.choice(kinds)
-    own, many = [], {5: 2, 7: 1, 17: 3, 18: 1, 19: 0}.get(kind, 2)
-    if kind == 0:
-        own, many = [dice.randint(-SIXTY, SIXTY)], 0
-    elif kind in (1, 2):
-        own, many = [dice.randrange(boxes)], kind - 1
-    elif kind == 3:
-        own = [dice.randint(1, 3)]
-        many = own[0]
-    elif kind == 4:
-        own = [dice.randint(2, 3)]
-        many = own[0] + 1
-    elif kind == 6:
-        own = [dice.randrange(len(heads))]
-        many = heads[own[0]][0]
-    parts = [random_node(dice, heads, boxes, deep + 1 + dice.randrange(4)) for part in range(many)]
-    return (kind, own, parts)
-
-
-def placed(node, start):
-    # The tuple of a node that begins at `start`, as [7] tells it, and the place behind it.
-    kind, own, parts = node
-    place = start + 1 + len(own)
-    told = []
-    for part in parts:
-        tuple_of_part, place = placed(part, place)
-        told.append(tuple_of_part)
-    return (kind, start, tuple(own), tuple(told)), place
-
-
-def written(node):
-    kind, own, parts = node
-    numbers = [kind] + own
-    for part in parts:
-        numbers += written(part)
-    return numbers
-
-
-def random_program(dice):
-    heads = []
-    for function in range(dice.randint(1, 4)):
-        params = dice.randint(0, 4) if function else 0
-        heads.append((params, dice.randint(params, 12)))
-    bodies = [random_node(dice, heads, boxes, 1) for params, boxes in heads]
-    sheet = [len(heads)]
-    for params, boxes in heads:
-        sheet += [params, boxes]
-    told = []
-    for (params, boxes), body in zip(heads, bodies):
-        node, place = placed(body, len(sheet))
-        told.append((params, boxes, node))
-        sheet += written(body)
-    return sheet, told
-
-
-def random_programs(many):
-    dice = random.Random(20)
-    programs = []
-    while len(programs) < many:
-        sheet, told = random_program(dice)
-        if len(sheet) <= 400:
-            programs.append((sheet, told))
-    return programs
+def random_sheets(many):
+    return random_programs(random.Random(20), many)
 
 
 class Refused(unittest.TestCase):
@@ -141,7 +72,7 @@ class OrdinarySheets(unittest.TestCase):
             self.assertIsNone(wrong(sheet), sheet)
 
     def test_random_sheets(self):
-        for sheet, told in random_programs(200):
+        for sheet, told in random_sheets(200):
             self.assertIsNone(wrong(sheet), sheet)
 
     def test_each_kind_by_itself(self):
@@ -280,7 +211,7 @@ class FirstWrongPlace(unittest.TestCase):
         self.assertEqual(wrong([]), (0, "end"))
 
     def test_end_at_every_cut(self):
-        for sheet in ordinary() + [sheet for sheet, told in random_programs(60)]:
+        for sheet in ordinary() + [sheet for sheet, told in random_sheets(60)]:
             for cut in range(len(sheet)):
                 self.assertEqual(wrong(sheet[:cut]), (cut, "end"), sheet)
 
@@ -312,7 +243,7 @@ class FirstWrongPlace(unittest.TestCase):
     def test_what_stands_ahead_of_the_place_is_right(self):
         dice = random.Random(6)
         words = set()
-        for sheet, told in random_programs(200):
+        for sheet, told in random_sheets(200):
             bent = list(sheet)
             bent[dice.randrange(len(bent))] = dice.randint(-2, 21)
             found = wrong(bent)
@@ -359,7 +290,7 @@ class Functions(Refused):
         self.assertEqual(functions(sheet), [(0, 0, pick)])
 
     def test_random_sheets(self):
-        for sheet, told in random_programs(200):
+        for sheet, told in random_sheets(200):
             self.assertEqual(functions(sheet), told)
 
     def test_tuples_within(self):
@@ -388,7 +319,7 @@ class Nodes(Refused):
         self.assertIs(type(nodes(sheet)), list)
 
     def test_random_sheets(self):
-        for sheet, told in random_programs(100):
+        for sheet, told in random_sheets(100):
             found = nodes(sheet)
             places = [node[1] for node in found]
             self.assertEqual(places, sorted(set(places)))
@@ -426,7 +357,7 @@ class SheetOf(Refused):
     def test_the_sheet_again(self):
         for sheet in ordinary():
             self.assertEqual(sheet_of(functions(sheet)), sheet)
-        for sheet, told in random_programs(100):
+        for sheet, told in random_sheets(100):
             self.assertEqual(sheet_of(told), sheet)
 
     def test_whatever_the_places_say(self):
