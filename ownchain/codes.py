@@ -30,6 +30,11 @@ def is_head(head, function, many_rows):
     return 0 <= params <= most_params and params <= boxes <= MOST_BOXES
 
 
+# Drop, back, fail and breath have no number to tell: theirs is 0.
+def stands_alone(op):
+    return op in (OP_DROP, OP_BACK, OP_FAIL, OP_BREATH)
+
+
 def is_row(row, many_functions, many_rows):
     op, number = row
     if op == OP_PUSH:
@@ -44,7 +49,7 @@ def is_row(row, many_functions, many_rows):
         return ADD <= number <= NEW
     if op == OP_PICK:
         return LEAST_PICK <= number <= MOST_MANY
-    return op in (OP_DROP, OP_BACK, OP_FAIL, OP_BREATH) and number == 0
+    return stands_alone(op) and number == 0
 
 
 def grouped(numbers, size):

@@ -30,11 +30,15 @@ def is_name(word):
     return word not in HEAD_WORDS and word not in WORDS
 
 
-def is_number(word):
+def is_number_of(word, most_figures):
     figures = word[1:] if word.startswith("-") else word
-    if len(figures) < 1 or len(figures) > MOST_FIGURES or not is_written_in(figures, FIGURES):
+    if len(figures) < 1 or len(figures) > most_figures or not is_written_in(figures, FIGURES):
         return False
     return word == "0" or figures[0] != "0"
+
+
+def is_number(word):
+    return is_number_of(word, MOST_FIGURES)
 
 
 class Reading:

@@ -290,3 +290,221 @@ def second_run(told, given, breaths):
                 params, boxes, body = told[number]
                 values, taken = values[:len(values) - params], values[len(values) - params:]
                 frames.append([number, 0, taken + [0] * (boxes - params)])
+
+
+OPS = ("push", "get", "set", "drop", "jump", "unless", "call", "back", "fail", "breath", "do", "pick")
+
+
+class Ended(Exception):
+    pass
+
+
+def second_go(code, given, breaths, most):
+    """The outcome of a code, by a call of Python's for each function that is being done."""
+    heads = [code[at:at + 3] for at in range(1, 1 + 3 * code[0], 3)]
+    numbers = code[1 + 3 * code[0]:]
+    rows, left = [list(given), []], {"breath": breaths, "rows": most}
+
+    def take(what):
+        if left[what] < 1:
+            raise Ended(what, 0)
+        left[what] -= 1
+
+    def function(number, values, deep):
+        start, params, boxes = heads[number]
+        own, held, at = (values + [0] * 12)[:boxes], [], start
+
+        def off(many):
+            if len(held) < many:
+                raise Ended("stray", 0)
+            taken = held[len(held) - many:]
+            held[len(held) - many:] = []
+            return taken
+
+        while True:
+            if 2 * at >= len(numbers):
+                raise Ended("stray", 0)
+            take("rows")
+            word, number = OPS[numbers[2 * at]], numbers[2 * at + 1]
+            at += 1
+            if word in ("get", "set") and number >= boxes:
+                raise Ended("stray", 0)
+            if word == "push":
+                held += [number]
+            elif word == "get":
+                held += [own[number]]
+            elif word == "set":
+                own[number] = off(1)[0]
+                held += [own[number]]
+            elif word == "jump":
+                at = number
+            elif word == "breath":
+                take("breath")
+            elif word == "call":
+                taken = off(heads[number][1])
+                if deep == 16:
+                    raise Ended("deep", 0)
+                take("breath")
+                held += [function(number, taken, deep + 1)]
+            elif word == "do":
+                value = second_deed(number, off({17: 3, 18: 1, 19: 0}.get(number, 2)), rows)
+                if isinstance(value, str):
+                    raise Ended(value, 0)
+                held += [value]
+            else:
+                value, = off(1)
+                if word == "back":
+                    return value
+                if word == "fail":
+                    raise Ended("told", value)
+                if word == "unless" and value == 0:
+                    at = number
+                if word == "pick":
+                    at += value if value in range(number) else number - 1
+
+    try:
+        take("breath")
+        return ("done", function(0, [], 1), rows[1])
+    except Ended as ended:
+        return ended.args + (rows[1],)
+
+
+def second_rows(node, begin, paper):
+    """The rows of a node whose first row is known, and its line and its parts' put to the paper."""
+    kind, place, own, parts = node
+    rows = []
+    if kind == 4:
+        rows = second_rows(parts[0], begin, paper) + [(11, own[0])]
+        middle = begin + len(rows) + own[0]
+        jumps, behind = [], []
+        for part in parts[1:]:
+            jumps.append((4, middle + 1 + len(behind)))
+            behind += second_rows(part, jumps[-1][1], paper) + [(4, middle)]
+        rows += jumps + [(4, middle + len(behind))] + behind[:-1]
+    elif kind == 5:
+        first = second_rows(parts[0], begin + 1, paper)
+        second = second_rows(parts[1], begin + 2 + len(first), paper)
+        out = begin + 4 + len(first) + len(second)
+        rows = [(9, 0)] + first + [(5, out)] + second + [(3, 0), (4, begin), (0, 0)]
+    else:
+        for part in parts:
+            if kind == 3 and rows:
+                rows.append((3, 0))
+            rows += second_rows(part, begin + len(rows), paper)
+        if kind != 3:
+            op = {0: 0, 1: 1, 2: 2, 6: 6, 7: 8}.get(kind, 10)
+            rows.append((op, own[0] if own else kind if op == 10 else 0))
+    paper[place] = (begin, begin + len(rows))
+    return rows
+
+
+def second_made(told):
+    """(heads, rows, paper) of functions as [7] tells them."""
+    heads, rows, paper = [], [], {}
+    for params, boxes, body in told:
+        heads.append((len(rows), params, boxes))
+        rows += second_rows(body, len(rows), paper) + [(7, 0)]
+    return heads, rows, [(place,) + paper[place] for place in sorted(paper)]
+
+
+def second_meant(rows, at):
+    seen = []
+    while at < len(rows) and rows[at][0] == 4 and at not in seen:
+        seen.append(at)
+        at = rows[at][1]
+    return at if at < len(rows) and rows[at][0] != 4 else None
+
+
+def second_fixed(node):
+    kind, place, own, parts = node
+    if kind == 0:
+        return own[0]
+    if kind not in range(8, 15):
+        return None
+    values = [second_fixed(part) for part in parts]
+    value = "none" if None in values else second_deed(kind, values, [])
+    return None if isinstance(value, str) else value
+
+
+def ways_to_be_right(node, at, rows):
+    """Ways as (parts, steps, pairs): steps are (row meant, what it is, row where it leads then), pairs rows that meet.
+
+    `at` tells of a node the rows at which it begins and ends, meant; all rows here are meant, or None.
+    """
+    kind, place, own, parts = node
+    begin, end = at(node)
+    ways = []
+    if second_fixed(node) is not None:
+        ways.append(([], [(begin, (0, second_fixed(node)), end)], []))
+    if kind == 4 and second_fixed(parts[0]) is not None:
+        value = second_fixed(parts[0])
+        one = parts[1:][value if value in range(own[0]) else -1]
+        ways.append(([one], [], [(at(one)[0], begin), (at(one)[1], end)]))
+    begins, ends = [at(part)[0] for part in parts], [at(part)[1] for part in parts]
+    if kind == 3:
+        steps = [(one, (3, 0), other) for one, other in zip(ends, begins[1:])]
+        ways.append((parts, steps, [(begins[0], begin), (ends[-1], end)]))
+    elif kind == 4:
+        pick = ends[0]
+        steps = [] if pick is None else [(pick + number, None, other) for number, other in enumerate(begins[1:])]
+        pairs = [(begins[0], begin), (pick, pick)] + [(other, end) for other in ends[1:]]
+        if pick is None or rows[pick] == (11, own[0]):
+            ways.append((parts, steps, pairs))
+    elif kind == 5:
+        if ends[0] is not None and rows[ends[0]][0] == 5:
+            out = rows[ends[0]][1]
+            steps = [(begin, (9, 0), begins[0]), (ends[0], (5, out), begins[1]), (ends[1], (3, 0), begin)]
+            ways.append((parts, steps + [(second_meant(rows, out), (0, 0), end)], []))
+    elif kind == 7:
+        ways.append((parts, [(ends[0], (8, 0), "any")], [(begins[0], begin)]))
+    elif kind > 0:
+        op = {1: 1, 2: 2, 6: 6}.get(kind, 10)
+        chain = [begin] + ends
+        steps = [(chain[-1], (op, kind if op == 10 else own[0]), end)]
+        ways.append((parts, steps, list(zip(chain, begins))))
+    return ways
+
+
+def second_lets_by(told, heads, rows, paper):
+    """Whether a paper of any kind is let by, for functions as [7] tells them."""
+    lines, places = {}, []
+
+    def note_places(node):
+        places.append(node[1])
+        for part in node[3]:
+            note_places(part)
+
+    for params, boxes, body in told:
+        note_places(body)
+    if [function[:2] for function in told] != [tuple(head[1:]) for head in heads] or type(paper) is not list:
+        return False
+    for line in paper:
+        if type(line) is not tuple or [type(number) for number in line] != [int] * 3 or line[0] in lines:
+            return False
+        if line[0] not in places or line[1] not in range(len(rows)) or line[2] not in range(len(rows) + 1):
+            return False
+        lines[line[0]] = (second_meant(rows, line[1]), second_meant(rows, line[2]))
+
+    def at(node):
+        return lines.get(node[1], (None, None))
+
+    def leads(step):
+        row, what, to = step
+        if row is None or what is not None and rows[row] != what:
+            return False
+        return to == "any" or to is not None and second_meant(rows, row + 1) == to
+
+    def right(node):
+        for parts, steps, pairs in ways_to_be_right(node, at, rows) if node[1] in lines else []:
+            if all(one is not None and one == other for one, other in pairs) and all(leads(step) for step in steps):
+                if all(right(part) for part in parts):
+                    return True
+        return False
+
+    for head, (params, boxes, body) in zip(heads, told):
+        begin, end = at(body)
+        if begin is None or second_meant(rows, head[0]) != begin or end is None or rows[end] != (7, 0):
+            return False
+        if not right(body):
+            return False
+    return True
