@@ -80,9 +80,9 @@ def make_node(making, node):
     making.paper.append((place, begin, len(making.rows)))
 
 
-def making_of(sheet):
+def making_of(program):
     making = Making()
-    for params, boxes, body in functions(sheet):
+    for params, boxes, body in program:
         making.heads.append((len(making.rows), params, boxes))
         make_node(making, body)
         making.rows.append((OP_BACK, 0))
@@ -90,9 +90,9 @@ def making_of(sheet):
 
 
 def made(sheet):
-    making = making_of(sheet)
+    making = making_of(functions(sheet))
     return code_of(making.heads, making.rows)
 
 
 def made_paper(sheet):
-    return sorted(making_of(sheet).paper)
+    return sorted(making_of(functions(sheet)).paper)

@@ -508,3 +508,52 @@ def second_lets_by(told, heads, rows, paper):
         if not right(body):
             return False
     return True
+
+
+def second_wrong(numbers):
+    """None, or (place, word): by a list of what is due, the last one first, each as (what, ..)."""
+    heads, due, at = [], [("many",)], 0
+    while due:
+        what, *more = due.pop()
+        if what == "node" and more[1] > 10:
+            return (at, "deep")
+        if at == len(numbers):
+            return (at, "end")
+        number = numbers[at]
+        if what == "many":
+            least, most = 1, 16
+        elif what == "params":
+            least, most = 0, 4 if heads else 0
+        elif what == "boxes":
+            least, most = heads[-1][0], 12
+        elif what == "node":
+            least, most = 0, 19
+        else:
+            least, most = more[0]
+        if not least <= number <= most:
+            return (at, "range")
+        at += 1
+        if what == "many":
+            due = [("bodies",)] + [("boxes",), ("params",)] * number
+        elif what == "params":
+            heads.append([number])
+        elif what == "boxes":
+            heads[-1].append(number)
+            if due == [("bodies",)]:
+                due = [("node", boxes, 1) for params, boxes in reversed(heads)]
+        elif what == "node":
+            boxes, deep = more
+            part = ("node", boxes, deep + 1)
+            if number in (3, 4):
+                due.append(("parts", (number - 2, 12), number - 3, part))
+            elif number == 6:
+                due.append(("called", (0, len(heads) - 1), part))
+            else:
+                due += [part] * {0: 0, 1: 0, 2: 1, 7: 1, 17: 3, 18: 1, 19: 0}.get(number, 2)
+                if number < 3:
+                    due.append(("own", (0, boxes - 1) if number else (-10 ** 200, 10 ** 200)))
+        elif what == "parts":
+            due += [more[2]] * (number + more[1])
+        elif what == "called":
+            due += [more[1]] * heads[number][0]
+    return None if at == len(numbers) else (at, "over")
